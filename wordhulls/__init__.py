@@ -1,0 +1,1 @@
+"""Wordhulls: the least sets read in one way of which told words are made."""

@@ -11,6 +11,32 @@ STOCKS_AND_READINGS = '''
 ['aba', 2, [1, 0], 1, False, True, 1, ['a', 'ab', 'ba', 'c'], ['a', 'ba']]
 '''
 
+ONEWAY = '''
+>>> from wordhulls.oneway import agree_most, are_endless, endless_rows, is_one_way, rests, two_readings
+>>> from wordhulls.stocks import Stock
+>>> stock, single = Stock(["a", "ab", "ba"]), Stock(["a", "ab", "bb"])
+>>> [rests(stock), is_one_way(stock), two_readings(stock), agree_most(stock), rests(single), two_readings(single), agree_most(single), are_endless(single, (([0], [2]), ([1], [2]))), are_endless(single, endless_rows(single)), agree_most(Stock(["a", "abc"])), endless_rows(Stock(["a", "abc"])), agree_most(Stock(["abab"]))]
+[['a', 'b'], False, ('aba', [0, 2], [1, 0]), None, ['b'], None, None, True, True, 1, None, 0]
+'''
+HULLS_AND_CUTS = '''
+>>> from wordhulls.cuts import after_cuts, are_cuts, cuts
+>>> from wordhulls.hulls import base, both_hull, free_hull, left_hull, lies_within, right_hull
+>>> from wordhulls.stocks import Stock
+>>> stock, single = Stock(["a", "ab", "ba"]), Stock(["a", "ab", "bb"])
+>>> [free_hull(stock), free_hull(single), left_hull(single), right_hull(single), both_hull(single), base(Stock(["aa", "a", "ab"])), free_hull(Stock(["abab"])), free_hull(Stock(["aa", "aaa"])), lies_within(single, Stock(["a", "b"]))]
+[['a', 'b'], ['a', 'ab', 'bb'], ['a', 'b'], ['a', 'ab', 'bb'], ['a', 'b'], ['a', 'ab'], ['abab'], ['a'], True]
+>>> [after_cuts(stock, [("ab", "a", "aba")]), after_cuts(stock, [("ab", "a", "aba"), ("ba", "b", "ba")]), are_cuts(stock, [("ab", "a", "aba"), ("ba", "b", "ba")]), are_cuts(stock, cuts(stock)), are_cuts(stock, []), cuts(single)]
+[['a', 'b', 'ba'], ['a', 'b'], True, True, False, []]
+'''
+# The last line of the document also asks files that are not there yet: this is what it asks counts.py.
+COUNTS = '''
+>>> from wordhulls.counts import count_texts, nth_text, text_index
+>>> from wordhulls.stocks import Stock
+>>> one, other = Stock(["a", "ba"]), Stock(["a", "ab"])
+>>> [[count_texts(one, length) for length in range(5)], nth_text(one, 4, 2), text_index(one, "baba")]
+[[1, 1, 2, 3, 5], 'abaa', 4]
+'''
+
 
 class ExampleTest(unittest.TestCase):
     def check(self, name, text):
@@ -22,6 +48,15 @@ class ExampleTest(unittest.TestCase):
 
     def test_stocks_and_readings(self):
         self.check("stocks and readings", STOCKS_AND_READINGS)
+
+    def test_oneway(self):
+        self.check("oneway", ONEWAY)
+
+    def test_hulls_and_cuts(self):
+        self.check("hulls and cuts", HULLS_AND_CUTS)
+
+    def test_counts(self):
+        self.check("counts", COUNTS)
 
 
 if __name__ == "__main__":

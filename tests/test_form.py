@@ -13,6 +13,10 @@ INTERFACE = {
     ],
     "stocks": ["Stock", "joined", "with_word", "without_word"],
     "readings": ["count_readings", "nth_reading", "reading_index", "is_text"],
+    "oneway": ["rests", "is_one_way", "two_readings", "agree_most", "endless_rows", "are_endless"],
+    "cuts": ["cuts", "are_cuts", "after_cuts"],
+    "hulls": ["free_hull", "left_hull", "right_hull", "both_hull", "base", "lies_within"],
+    "counts": ["count_texts", "nth_text", "text_index"],
 }
 
 

@@ -9,7 +9,7 @@ EIGHT_POWERS = ["a" * length for length in range(1, 9)]
 
 
 class PlainCase(unittest.TestCase):
-    def check_error(self, error_class, value, function, *told, **named):
+    def check_error(self, error_class, value, function, /, *told, **named):
         with self.assertRaises(error_class) as caught:
             function(*told, **named)
         self.assertIs(type(caught.exception), error_class)
@@ -180,3 +180,142 @@ def most_alike(words, most):
     for one, other in itertools.combinations(begun, 2):
         longest = max([longest] + [len(text) for text in one & other])
     return longest
+
+
+def code_rows(rows):
+    """Those of the rows of words that are read in one way."""
+    return [words for words in rows if one_way(tuple(words))]
+
+
+def some_pairs(seed, many, rows):
+    """So many pairs of rows, always the same ones for a seed."""
+    source = random.Random(seed)
+    return [(source.choice(rows), source.choice(rows)) for _ in range(many)]
+
+
+def by_length(texts, most):
+    """The texts in one sorted list for each length to the most."""
+    rows = [[] for _ in range(most + 1)]
+    for text in texts:
+        rows[len(text)].append(text)
+    return [sorted(row) for row in rows]
+
+
+def common_of(words, others, most):
+    """The texts of at most so many letters of both rows of words, by length and the alphabet."""
+    return sorted(set(all_texts(words, most)) & set(all_texts(others, most)), key=shortlex)
+
+
+def base_of(texts):
+    """Those of the texts, by length and the alphabet, that are not empty nor made of shorter ones."""
+    found = []
+    for text in texts:
+        if text != "" and not made(found, text):
+            found.append(text)
+    return found
+
+
+def cut_places(words, text):
+    """The places at which a word ends or begins in the one reading of a text, None if it is no text."""
+    ahead = [{0}] + [None] * len(text)
+    for end in range(1, len(text) + 1):
+        for word in words:
+            start = end - len(word)
+            if start >= 0 and text[start:end] == word and ahead[start] is not None:
+                ahead[end] = ahead[start] | {end}
+    return ahead[len(text)]
+
+
+def is_base_word(words, others, text):
+    """Whether both rows of words have a text and meet at its two ends only."""
+    one, other = cut_places(words, text), cut_places(others, text)
+    return text != "" and one is not None and other is not None and one & other == {0, len(text)}
+
+
+class LetterPairs:
+    """Common texts, letter by letter, by what is left of the last word of each of two rows.
+
+    If they are to meet once, nothing goes on behind the first end of words of both.
+    """
+
+    def __init__(self, words, others, once):
+        self.words, self.others, self.once = words, others, once
+        self.rows, self.told = {}, {}
+
+    def behind(self, pair):
+        if pair not in self.told:
+            end, other_end = pair
+            self.told[pair] = [
+                (one[1:], other[1:])
+                for one in ([end] if end else self.words)
+                for other in ([other_end] if other_end else self.others)
+                if one[0] == other[0]
+            ]
+        return self.told[pair]
+
+    def behind_letter(self, pair, letter):
+        end, other_end = pair
+        return [
+            (one[1:], other[1:])
+            for one in ([end] if end else self.words)
+            for other in ([other_end] if other_end else self.others)
+            if one[0] == other[0] == letter
+        ]
+
+    def going(self, pairs):
+        return [pair for pair in pairs if pair != ("", "")] if self.once else pairs
+
+    def ways(self, pair, left):
+        """How many ways so many letters can follow a pair."""
+        if left == 0:
+            return 1 if pair == ("", "") else 0
+        if (pair, left) not in self.rows:
+            told = self.behind(pair)
+            if left > 1:
+                told = self.going(told)
+            self.rows[pair, left] = sum([self.ways(behind, left - 1) for behind in told])
+        return self.rows[pair, left]
+
+    def counts(self, most):
+        """How many there are of each length to the most."""
+        told = [0 if self.once else 1]
+        row = {("", ""): 1}
+        for _ in range(most):
+            longer = {}
+            for pair, many in row.items():
+                for behind in self.behind(pair):
+                    longer[behind] = longer.get(behind, 0) + many
+            told.append(longer.get(("", ""), 0))
+            row = {pair: longer[pair] for pair in self.going(list(longer))}
+        return told
+
+    def rank(self, text):
+        """How many as long ones stand ahead of a text by the alphabet."""
+        letters = sorted(set("".join(self.words)))
+        told = 0
+        pairs = [("", "")]
+        for place, sign in enumerate(text):
+            left = len(text) - place - 1
+            for letter in letters:
+                longer = [behind for pair in pairs for behind in self.behind_letter(pair, letter)]
+                if left > 0:
+                    longer = self.going(longer)
+                if letter == sign:
+                    pairs = longer
+                    break
+                told += sum([self.ways(pair, left) for pair in longer])
+        return told
+
+    def longest(self):
+        """The greatest length there is, 0 if there is none, None if there is no greatest one."""
+        seen, ahead = set(), [("", "")]
+        while ahead:
+            pair = ahead.pop()
+            if pair not in seen:
+                seen.add(pair)
+                ahead.extend(self.going(self.behind(pair)))
+        # What is as long as there are pairs comes to one twice, and may have a ring more or less.
+        told = [length for length, many in enumerate(self.counts(2 * len(seen) + 2)) if many and length]
+        if told and told[-1] > len(seen) + 1:
+            return None
+        return max(told, default=0)

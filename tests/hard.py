@@ -28,3 +28,57 @@ LONG_RINGS = [
     ["a", "aaaaaaab", "baaaaabb", "bbaaabbb", "bbbaaaba", "abab", "bbbbb", "abbabaa"],
 ]
 HARD = LONG_TEXTS + MANY_RESTS + MANY_CUTS + LONG_AGREEMENT + LONG_RINGS
+
+# Pairs of stocks that are read in one way, whose least common text is long.
+LONG_FIRSTS = [
+    (
+        ["bbbbbba", "aa", "abababa", "bababaa", "bbbbaa", "abbaaaba", "baabaaab"],
+        ["aabaabb", "ababaaaa", "aaaabbbb", "baabab", "babaaaab", "abaaba", "bbaababa", "bbabbab"],
+    ),
+    (
+        ["bbbabbaa", "aaaa", "abbabb", "aabbaba", "baab", "bbababab", "abbababa"],
+        ["babba", "bbabbbbb", "abbaaaa", "aaaaaabb", "abaabba", "aabbabbb", "aaababb", "bababa"],
+    ),
+    (
+        ["cccacca", "aabacaa", "aabcbba", "aa", "caccacc", "accac", "cbcacac", "bca"],
+        ["accacca", "ccaccacc", "abbcb", "ccb"],
+    ),
+]
+# Their base has finitely many words, some of them long.
+LONGEST_WORDS = [
+    (
+        ["bba", "babbab", "bbbbaaba", "bbbbabb", "aaaaaaaa", "abbabbaa", "bbabbb", "ababbbab"],
+        ["aaaaaaa", "bbabbba", "babbabb", "baab", "bbbbbb", "bbbaa", "bbabbab", "abbba"],
+    ),
+    (
+        ["bbbaaaa", "bbbbbbbb", "abaaabaa", "bbaabaaa", "baabaaab", "baaba", "aabab", "abbb"],
+        ["b", "bbaaba", "ababba", "abaaabbb", "aabaa", "aaaabbbb", "babbaab", "baaaabba"],
+    ),
+    (
+        ["cab", "cccccccc", "b", "accabbb", "bbaaabbb", "abbbaaab", "aabb", "ccabbbaa"],
+        ["ccccccc", "aabbbaa", "cabbb", "bbbbbbac", "abbbb", "a", "baaab", "cbba"],
+    ),
+]
+# Their base has no end, and the loop found has a long ring or a long part behind it.
+LONG_LOOPS = [
+    (
+        ["bbbbbaba", "ab", "aababbaa", "ababaabb", "baaab", "aabbaaa", "babbbbbb", "baabbbba"],
+        ["bbbababa", "aaabab", "bbaaabb", "bb", "abaabbaa", "baabaab", "abb", "bbbaabb"],
+    ),
+    (
+        ["baababaa", "aaaabb", "aabbbbaa", "bbabbb", "aaabbba", "baaa", "aba", "abba"],
+        ["ab", "aabba", "baabbaab", "abaaaabb", "bbbaaaaa", "bbaaaaab", "aaba", "aabbbb"],
+    ),
+]
+# Two rows of their words can go together in many states.
+MANY_STATES = [
+    (
+        ["aabaaabb", "b", "abaaaaab", "aabaaaaa", "aaaaaaba", "babaabaa", "abaaabbb", "abaaabab"],
+        ["ba", "bbbbbbbb", "abbbbbba", "abbbbbaa", "abbbbbab", "abbbbaaa", "a", "abbbbaab"],
+    ),
+    (
+        ["bbbbbabb", "bbbabbaa", "bbbbbbab", "a", "babbaaaa", "bbabbbbb", "bbbbbbba", "bbbbabbb"],
+        ["b", "baaaaabb", "baaaaaaa", "bbbbabba", "aaaaabab", "baaabbba", "abbaaaab", "abbbbbb"],
+    ),
+]
+HARD_PAIRS = LONG_FIRSTS + LONGEST_WORDS + LONG_LOOPS + MANY_STATES

@@ -28,13 +28,22 @@ HULLS_AND_CUTS = '''
 >>> [after_cuts(stock, [("ab", "a", "aba")]), after_cuts(stock, [("ab", "a", "aba"), ("ba", "b", "ba")]), are_cuts(stock, [("ab", "a", "aba"), ("ba", "b", "ba")]), are_cuts(stock, cuts(stock)), are_cuts(stock, []), cuts(single)]
 [['a', 'b', 'ba'], ['a', 'b'], True, True, False, []]
 '''
-# The last line of the document also asks files that are not there yet: this is what it asks counts.py.
-COUNTS = '''
+COUNTS_COMMONS_AND_LOOPS = '''
+>>> from wordhulls.commons import count_base, count_common, first_common, nth_base, nth_common
 >>> from wordhulls.counts import count_texts, nth_text, text_index
+>>> from wordhulls.loops import base_loop, is_base_loop, longest_base
 >>> from wordhulls.stocks import Stock
 >>> one, other = Stock(["a", "ba"]), Stock(["a", "ab"])
->>> [[count_texts(one, length) for length in range(5)], nth_text(one, 4, 2), text_index(one, "baba")]
-[[1, 1, 2, 3, 5], 'abaa', 4]
+>>> [[count_texts(one, length) for length in range(5)], nth_text(one, 4, 2), text_index(one, "baba"), [count_common(one, other, length) for length in range(6)], first_common(one, other), nth_common(one, other, 3, 1), [count_base(one, other, length) for length in range(6)], nth_base(one, other, 5, 0), longest_base(one, other), is_base_loop(one, other, ("a", "ba", "ba")), is_base_loop(one, other, base_loop(one, other)), longest_base(Stock(["aa"]), Stock(["aaa"])), base_loop(Stock(["aa"]), Stock(["aaa"])), first_common(Stock(["a"]), Stock(["b"]))]
+[[1, 1, 2, 3, 5], 'abaa', 4, [1, 1, 1, 2, 3, 5], 'a', 'aba', [0, 1, 0, 1, 0, 1], 'ababa', None, True, True, 6, None, None]
+'''
+# The lines of this section that need no other file.
+ROOMS = '''
+>>> from wordhulls.rooms import filling, is_full, is_part, lost_word, room
+>>> from wordhulls.stocks import Stock
+>>> stock, single = Stock(["a", "ba"]), Stock(["a", "ab", "bb"])
+>>> [room(stock, 2), room(single, 2), is_full(single, 2), is_full(stock, 2), filling(stock, 2), filling(Stock(["a", "b"]), 2), is_part(stock, "abab"), is_part(stock, "bb"), lost_word(stock, 2, 5), lost_word(single, 2, 5), lost_word(stock, 3, 5)]
+[(3, 4), (1, 1), True, False, ['bb'], [], True, False, 'bb', None, 'c']
 '''
 
 
@@ -55,8 +64,11 @@ class ExampleTest(unittest.TestCase):
     def test_hulls_and_cuts(self):
         self.check("hulls and cuts", HULLS_AND_CUTS)
 
-    def test_counts(self):
-        self.check("counts", COUNTS)
+    def test_counts_commons_and_loops(self):
+        self.check("counts, commons and loops", COUNTS_COMMONS_AND_LOOPS)
+
+    def test_rooms(self):
+        self.check("rooms", ROOMS)
 
 
 if __name__ == "__main__":

@@ -17,6 +17,9 @@ INTERFACE = {
     "cuts": ["cuts", "are_cuts", "after_cuts"],
     "hulls": ["free_hull", "left_hull", "right_hull", "both_hull", "base", "lies_within"],
     "counts": ["count_texts", "nth_text", "text_index"],
+    "commons": ["count_common", "nth_common", "count_base", "nth_base", "first_common"],
+    "loops": ["longest_base", "base_loop", "is_base_loop"],
+    "rooms": ["room", "is_full", "filling", "lost_word", "is_part"],
 }
 
 

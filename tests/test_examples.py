@@ -37,13 +37,29 @@ COUNTS_COMMONS_AND_LOOPS = '''
 >>> [[count_texts(one, length) for length in range(5)], nth_text(one, 4, 2), text_index(one, "baba"), [count_common(one, other, length) for length in range(6)], first_common(one, other), nth_common(one, other, 3, 1), [count_base(one, other, length) for length in range(6)], nth_base(one, other, 5, 0), longest_base(one, other), is_base_loop(one, other, ("a", "ba", "ba")), is_base_loop(one, other, base_loop(one, other)), longest_base(Stock(["aa"]), Stock(["aaa"])), base_loop(Stock(["aa"]), Stock(["aaa"])), first_common(Stock(["a"]), Stock(["b"]))]
 [[1, 1, 2, 3, 5], 'abaa', 4, [1, 1, 1, 2, 3, 5], 'a', 'aba', [0, 1, 0, 1, 0, 1], 'ababa', None, True, True, 6, None, None]
 '''
-# The lines of this section that need no other file.
-ROOMS = '''
+ROOMS_AND_ROOTS = '''
 >>> from wordhulls.rooms import filling, is_full, is_part, lost_word, room
+>>> from wordhulls.roots import commute, powers_of_one, root
 >>> from wordhulls.stocks import Stock
 >>> stock, single = Stock(["a", "ba"]), Stock(["a", "ab", "bb"])
 >>> [room(stock, 2), room(single, 2), is_full(single, 2), is_full(stock, 2), filling(stock, 2), filling(Stock(["a", "b"]), 2), is_part(stock, "abab"), is_part(stock, "bb"), lost_word(stock, 2, 5), lost_word(single, 2, 5), lost_word(stock, 3, 5)]
 [(3, 4), (1, 1), True, False, ['bb'], [], True, False, 'bb', None, 'c']
+>>> [root("abab"), commute("ab", "abab"), commute("a", "b"), powers_of_one(Stock(["aa", "aaa"])), powers_of_one(stock)]
+[('ab', 2), True, False, True, False]
+'''
+SHELVES = '''
+>>> from wordhulls.shelves import Shelf, SmallShelf
+>>> shelf = Shelf()
+>>> [shelf.put("ab"), shelf.put("a"), shelf.put("ba"), shelf.hull(), shelf.swap("ba", "bb"), shelf.words, shelf.hull(), shelf.take("a"), len(shelf), shelf.undo(), shelf.stock().words, shelf.story()[-1], Shelf() == SmallShelf(3)]
+[None, None, None, ['a', 'b'], None, ['ab', 'a', 'bb'], ['a', 'ab', 'bb'], None, 2, None, ['ab', 'a', 'bb'], ('swap', 'ba', 'bb'), False]
+'''
+TEXTS_AND_READTEXTS = '''
+>>> from wordhulls.readtexts import read_stock
+>>> from wordhulls.stocks import Stock
+>>> from wordhulls.texts import show_reading, show_stock
+>>> stock = Stock(["a", "ab", "ba"])
+>>> [show_stock(stock), show_reading(stock, [1, 0]), show_reading(stock, []), read_stock("a ab ba") == stock, read_stock("zz").words]
+['a ab ba', 'ab.a', '-', True, ['zz']]
 '''
 
 
@@ -67,8 +83,14 @@ class ExampleTest(unittest.TestCase):
     def test_counts_commons_and_loops(self):
         self.check("counts, commons and loops", COUNTS_COMMONS_AND_LOOPS)
 
-    def test_rooms(self):
-        self.check("rooms", ROOMS)
+    def test_rooms_and_roots(self):
+        self.check("rooms and roots", ROOMS_AND_ROOTS)
+
+    def test_shelves(self):
+        self.check("shelves", SHELVES)
+
+    def test_texts_and_readtexts(self):
+        self.check("texts and readtexts", TEXTS_AND_READTEXTS)
 
 
 if __name__ == "__main__":

@@ -20,6 +20,10 @@ INTERFACE = {
     "commons": ["count_common", "nth_common", "count_base", "nth_base", "first_common"],
     "loops": ["longest_base", "base_loop", "is_base_loop"],
     "rooms": ["room", "is_full", "filling", "lost_word", "is_part"],
+    "roots": ["root", "commute", "powers_of_one"],
+    "shelves": ["Shelf", "SmallShelf"],
+    "texts": ["show_stock", "show_reading"],
+    "readtexts": ["read_stock"],
 }
 
 
